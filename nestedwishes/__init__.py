@@ -1,0 +1,1 @@
+"""Nestedwishes: nested questions about things of several kinds."""
