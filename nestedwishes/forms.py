@@ -2,34 +2,17 @@
 
 from nestedwishes.asked import asked_pairs, asked_places
 from nestedwishes.entries import members_below, wishes_of
-from nestedwishes.errors import Clash, NoPlace
+from nestedwishes.errors import NoPlace
 from nestedwishes.questions import Question
+from nestedwishes.sites import Sites, check_clashes
 from nestedwishes.truths import all_truths, check_flags
 
 
 def plain(question, flags):
     """Return the plain form of a question for these flags."""
     check_flags(question.flags(), flags)
-    way = least_clash(question, question.rows, question.schema.root, flags)
-    if way is not None:
-        raise Clash(way)
+    check_clashes(Sites(question, flags))
     return plain_rows(question, question.rows, question.schema.root, flags)
-
-
-def least_clash(question, rows, kind, truth):
-    """Return the least way of keys, from these rows on, to a key that clashes, or None if there is none."""
-    wishes = wishes_of(question, rows, kind, truth)
-    for key in sorted(wishes):
-        names, inner = wishes[key]
-        if len(names) > 1:
-            return (key,)
-        kinds = members_below(question.schema, kind, names[0])
-        if kinds is not None:
-            ways = [least_clash(question, inner, member, truth) for member in kinds]
-            found = [way for way in ways if way is not None]
-            if found:
-                return (key,) + min(found)
-    return None
 
 
 def plain_rows(question, rows, kind, truth):

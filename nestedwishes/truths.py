@@ -17,3 +17,8 @@ def all_truths(names):
     for name in names:
         truths = [{**truth, name: wanted} for truth in truths for wanted in (False, True)]
     return truths
+
+
+def common_flags(one, other):
+    """Return the flags that at least one of two questions has, ascending."""
+    return sorted(set([*one.flags(), *other.flags()]))

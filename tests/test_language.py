@@ -28,6 +28,10 @@ INTERFACE = {
     "schemas": ["Schema"],
     "questions": ["Question"],
     "forms": ["plain", "applies", "pruned", "fixed"],
+    "answers": ["Store", "answer", "reads", "Prepared"],
+    "alike": ["parted", "alike"],
+    "clashes": ["clash", "written"],
+    "risings": ["rises", "wipes", "held"],
 }
 CLASSES = {
     ("schemas", "Schema"): [
@@ -35,6 +39,8 @@ CLASSES = {
         "linked", "with_shape"],
     ("questions", "Question"): [
         "__init__", "__eq__", "__add__", "__len__", "__getitem__", "__contains__", "parts", "flags", "places", "base_at"],
+    ("answers", "Store"): ["__init__", "__eq__", "things", "kind_of", "value", "with_value"],
+    ("answers", "Prepared"): ["__init__", "__call__"],
 }
 
 

@@ -9,82 +9,11 @@ import unittest
 from nestedwishes.errors import BadQuestion, Clash
 from nestedwishes.forms import applies, fixed, plain, pruned
 from nestedwishes.questions import Question
-from nestedwishes.schemas import Schema
 from tests import oracle
+from tests.drawn import random_question, random_world, schema_of
 
 WRONG_VALUES = [None, True, 0, "", "Key", "ab", [], (), ("kind",), ("kind", "k", "k"), ("on", "number", ()), ("part", "zz"),
                 {}, ("if", "f", 1, ()), ("field", "a", "b"), (("kind", "k"),) * 7]
-
-
-def random_shape(draw, bases):
-    shape = draw.choice(bases)
-    for _ in range(draw.choice([0, 0, 1, 2])):
-        word = draw.choice(["list", "sure"])
-        if not (word == "sure" and isinstance(shape, tuple) and shape[0] == "sure"):
-            shape = (word, shape)
-    return shape
-
-
-def random_world(draw):
-    kinds = list("pqrstu")[:draw.randint(1, 6)]
-    faces = list("fgh")[:draw.randint(0, 3)]
-    unions = list("vwx")[:draw.randint(0, 3)]
-    bases = ["number", "text", *kinds, *kinds, *faces, *unions]
-    shapes = {field: random_shape(draw, bases) for field in "abcde"}
-    held = {kind: set(draw.sample(faces, draw.randint(0, len(faces)))) for kind in kinds}
-    for face in faces:
-        held[draw.choice(kinds)].add(face)
-    face_fields = {face: {field: shapes[field] for field in draw.sample("abcde", draw.randint(1, 4))} for face in faces}
-    world = {"kinds": {}, "faces": face_fields, "unions": {}, "root": draw.choice(kinds)}
-    for kind in kinds:
-        needed = {field for face in held[kind] for field in face_fields[face]}
-        fields = {}
-        for field in "abcde":
-            if field in needed or draw.random() < 0.5 or (field == "e" and not fields):
-                fields[field] = shapes[field] if field in needed else random_shape(draw, bases)
-        world["kinds"][kind] = (tuple(sorted(held[kind])), fields)
-    for union in unions:
-        world["unions"][union] = tuple(draw.sample(kinds, draw.randint(1, min(4, len(kinds)))))
-    return world
-
-
-def random_rows(draw, world, base, parts, depth):
-    """Rows for a base whose height may reach the depth."""
-    rows = []
-    for _ in range(draw.choice([0, 1, 1, 2, 2, 3]) if depth > 0 else 0):
-        rows.append(random_statement(draw, world, base, parts, depth))
-    return tuple(rows)
-
-
-def random_statement(draw, world, base, parts, depth):
-    bases = [*world["kinds"], *world["faces"], *world["unions"]]
-    word = draw.choice(["field", "field", "field", "kind", "on", "on", "part", "if"])
-    fields = sorted(oracle.shapes(world, base))
-    if word == "field" and fields:
-        name = draw.choice(fields)
-        below = oracle.target(world, base, name)
-        rows = () if below in oracle.LEAVES else random_rows(draw, world, below, parts, depth - 1)
-        return ("field", name, draw.choice([name, name, "k", "l"]), rows)
-    if word == "on":
-        below = draw.choice([base, *bases])
-        return ("on", below, random_rows(draw, world, below, parts, depth - 1))
-    if word == "part" and parts:
-        return ("part", draw.choice(parts))
-    if word == "if":
-        return ("if", draw.choice("fgh"), draw.random() < 0.5, random_rows(draw, world, base, parts, depth - 1))
-    return ("kind", draw.choice(["k", "m", "m"]))
-
-
-def random_question(draw, world):
-    """Rows and parts. Not all of them make a question: they may be too many, or come to themselves."""
-    bases = [*world["kinds"], *world["faces"], *world["unions"]]
-    names = draw.sample("abcd", draw.randint(0, 4))
-    parts = {}
-    for index, name in enumerate(names):
-        base = draw.choice(bases)
-        usable = names if draw.random() < 0.1 else names[:index]
-        parts[name] = (base, random_rows(draw, world, base, usable, draw.choice([1, 1, 2, 3])))
-    return random_rows(draw, world, world["root"], names, draw.choice([2, 4, 5, 6])), parts
 
 
 def spoiled(draw, value):
@@ -96,9 +25,6 @@ def spoiled(draw, value):
 
 
 class RandomQuestions(unittest.TestCase):
-    def schema_of(self, world):
-        return Schema(world["kinds"], world["faces"], world["unions"], world["root"])
-
     def place_of_error(self, schema, rows, parts):
         try:
             Question(schema, rows, parts)
@@ -111,7 +37,7 @@ class RandomQuestions(unittest.TestCase):
         for seed in seeds:
             draw = random.Random(seed)
             world = random_world(draw)
-            schema = self.schema_of(world)
+            schema = schema_of(world)
             for _ in range(wanted):
                 rows, parts = random_question(draw, world)
                 if oracle.wrong_place(world, rows, parts) is None:
@@ -122,7 +48,7 @@ class RandomQuestions(unittest.TestCase):
         for seed in range(150):
             draw = random.Random(seed)
             world = random_world(draw)
-            schema = self.schema_of(world)
+            schema = schema_of(world)
             for _ in range(8):
                 rows, parts = random_question(draw, world)
                 if draw.random() < 0.6:
