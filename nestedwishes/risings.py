@@ -1,7 +1,7 @@
 """How far a failure rises, and which changes of the schema keep it from rising so far."""
 
-from nestedwishes.errors import BadNumber, TooMany
-from nestedwishes.names import is_plain_int
+from nestedwishes.bounds import check_number
+from nestedwishes.errors import TooMany
 from nestedwishes.shapes import is_sure, target_of
 from nestedwishes.sites import Sites, check_clashes
 from nestedwishes.truths import check_flags
@@ -39,12 +39,6 @@ def held(question, flags, *, depth=1, most=3):
             if all([any([change in chosen for change in helpers]) for helpers in different]):
                 return list(chosen)
     return None
-
-
-def check_number(number, greatest):
-    """Raise BadNumber if a value is not an integer from 0 to the greatest one."""
-    if not is_plain_int(number) or not 0 <= number <= greatest:
-        raise BadNumber("not an integer within the bounds")
 
 
 def wiping(question, truth, depth):

@@ -11,9 +11,8 @@ def store_along(schema, steps):
 
     The things of the way are different, and no other values lead to them.
     """
-    kinds = schema.kinds()
-    names = {kinds[index]: LETTERS[index] for index in range(len(kinds))}
-    things = {names[kind]: (kind, sample_fields(schema, kind, names)) for kind in kinds}
+    names = sample_names(schema)
+    things = {names[kind]: (kind, sample_fields(schema, kind, names)) for kind in names}
     passed = [schema.root, *[kind for field, kind in steps]]
     way = [LETTERS[MOST_KINDS + index] for index in range(len(passed))]
     for index in range(len(passed)):
@@ -23,6 +22,12 @@ def store_along(schema, steps):
             fields[field] = leading_value(schema.shape_of(passed[index], field), way[index + 1])
         things[way[index]] = (passed[index], fields)
     return Store(schema, things, way[0]), way[-1]
+
+
+def sample_names(schema):
+    """Return a dict from each kind to the name of the thing that stands for it."""
+    kinds = schema.kinds()
+    return {kinds[index]: LETTERS[index] for index in range(len(kinds))}
 
 
 def sample_fields(schema, kind, names):
@@ -41,6 +46,19 @@ def sample_value(schema, shape, names):
     if shape == "text":
         return ""
     return names[schema.members(shape)[0]]
+
+
+def unlike_values(schema, shape, names):
+    """Return two values that give unlike data, whatever is asked. Not each value of the shape may lead to one thing."""
+    if is_sure(shape):
+        return unlike_values(schema, shape[1], names)
+    if isinstance(shape, tuple):
+        return [], [sample_value(schema, shape[1], names)]
+    if shape == "number":
+        return 0, 1
+    if shape == "text":
+        return "", "a"
+    return None, sample_value(schema, shape, names)
 
 
 def leading_value(shape, thing):

@@ -26,3 +26,17 @@ def target_of(shape):
 def is_sure(shape):
     """Tell if the outermost wrapper of a shape is "sure"."""
     return isinstance(shape, tuple) and shape[0] == "sure"
+
+
+def lists_in(shape):
+    """Return the number of lists in a shape."""
+    if not isinstance(shape, tuple):
+        return 0
+    if shape[0] == "list":
+        return 1 + lists_in(shape[1])
+    return lists_in(shape[1])
+
+
+def is_sure_thing(shape):
+    """Tell if a value of a shape always leads to exactly one thing."""
+    return is_sure(shape) and not isinstance(shape[1], tuple) and shape[1] not in LEAVES

@@ -26,6 +26,15 @@ def check_store(schema, things, first):
         raise BadStore("", "")
 
 
+def check_new_names(names, things):
+    """Raise BadStore if things cannot be added to those with these names, whatever the things are."""
+    if not is_table(things, 0, MOST_THINGS, ()) or len(set([*names, *things])) > MOST_THINGS:
+        raise BadStore("", "")
+    for name in sorted(things):
+        if name in names:
+            raise BadStore(name, "")
+
+
 def check_things(schema, things):
     """Raise BadStore for the least thing that is not a tuple of a kind and of a dict of its fields."""
     for name in sorted(things):

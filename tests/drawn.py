@@ -216,3 +216,119 @@ def leading_rights(draw, world, wanted, mixed=0):
         except BadQuestion:
             pass
     return found
+
+
+def clean_value(draw, world, things, shape):
+    """A value of a shape that is empty only where it need not be sure. There is a thing of each kind."""
+    if isinstance(shape, tuple) and shape[0] == "sure":
+        value = None
+        while value is None:
+            value = clean_value(draw, world, things, shape[1])
+        return value
+    if draw.random() < 0.15:
+        return None
+    if isinstance(shape, tuple):
+        return [clean_value(draw, world, things, shape[1]) for _ in range(draw.choice([0, 1, 1, 2]))]
+    if shape in oracle.LEAVES:
+        return draw.choice({"number": [0, 1, 2], "text": ["", "a", "b"]}[shape])
+    return draw.choice([name for name in sorted(things) if things[name] in oracle.members(world, shape)])
+
+
+def clean_things(draw, world):
+    """Things in a clean store with at least one of each kind, and the first one of them."""
+    kinds = dict(zip("abcdef", world["kinds"]))
+    for name in "ghijkm"[:draw.randint(0, 6)]:
+        kinds[name] = draw.choice(sorted(world["kinds"]))
+    first = draw.choice([name for name in kinds if kinds[name] == world["root"]])
+    things = {}
+    for name, kind in kinds.items():
+        shapes = world["kinds"][kind][1]
+        things[name] = (kind, {field: clean_value(draw, world, kinds, shapes[field]) for field in shapes})
+    return things, first
+
+
+def marked_rows(draw, world, base, rows, missing):
+    """Rows that ask for the kind below each field whose target has several members, but now and then not."""
+    marked = []
+    for statement in rows:
+        if statement[0] == "field":
+            below = oracle.target(world, base, statement[1])
+            if below in oracle.LEAVES:
+                marked.append(statement)
+                continue
+            inner = marked_rows(draw, world, below, statement[3], missing)
+            if len(oracle.members(world, below)) > 1 and draw.random() >= missing:
+                inner = (("kind", "z"),) + inner[:5]
+            marked.append((*statement[:3], inner))
+        elif statement[0] in ("on", "if"):
+            below = statement[1] if statement[0] == "on" else base
+            marked.append((*statement[:-1], marked_rows(draw, world, below, statement[-1], missing)))
+        else:
+            marked.append(statement)
+    return tuple(marked)
+
+
+def marked(draw, world, rows, parts, missing=0):
+    """A tuple (rows, parts, question) of a question with marked_rows, or None if it would be too large."""
+    new_rows = marked_rows(draw, world, world["root"], rows, missing)
+    new_parts = {name: (base, marked_rows(draw, world, base, inner, missing)) for name, (base, inner) in parts.items()}
+    try:
+        return new_rows, new_parts, Question(schema_of(world), new_rows, new_parts)
+    except BadQuestion:
+        return None
+
+
+def steady_world(draw):
+    """A world of few kinds in which most fields always lead to one thing."""
+    kinds = list("pqr")[:draw.randint(1, 3)]
+    bases = [*kinds, "f", "u"]
+    shape = ("sure", draw.choice(bases))
+    world = {"kinds": {}, "faces": {"f": {"a": shape}}, "unions": {"u": tuple(kinds)}, "root": draw.choice(kinds)}
+    for kind in kinds:
+        fields = {"a": shape, "b": ("sure", draw.choice(bases)), "c": draw.choice(["number", "u", ("list", "f"), ("sure", "f")])}
+        world["kinds"][kind] = (("f",), fields)
+    return world
+
+
+def listed_world(draw):
+    """A world of few kinds that lead to each other, through lists of several depths."""
+    kinds = list("pqrs")[:draw.randint(2, 4)]
+    shapes = {"a": listed_shape(draw, "f"), "b": listed_shape(draw, draw.choice(["u", "u", *kinds]))}
+    world = {"kinds": {}, "faces": {"f": shapes}, "unions": {"u": tuple(kinds)}, "root": draw.choice(kinds)}
+    for kind in kinds:
+        world["kinds"][kind] = (("f",), {**shapes, "c": listed_shape(draw, draw.choice(["number", "text", "f", "u"]))})
+    return world
+
+
+def listed_shape(draw, base):
+    return draw.choice([base, base, ("list", base), ("sure", ("list", base)), ("list", ("sure", ("list", base)))])
+
+
+def crowded_rows(draw, world, base, depth):
+    """Rows that ask unlike things of the members of a base: of some for many kind names, of others for fields."""
+    rows = []
+    for member in oracle.members(world, base):
+        inner = [("kind", "k" + key) for key in "abcd"[:draw.choice([0, 0, 1, 2, 3, 4])]]
+        for name in draw.sample(sorted(oracle.shapes(world, member)), draw.choice([0, 1, 1, 2])):
+            below = oracle.target(world, member, name)
+            if below in oracle.LEAVES:
+                inner.append(("field", name, name, ()))
+            elif depth > 2:
+                more = crowded_rows(draw, world, below, depth - 2)
+                inner.extend(("field", name, name + key, more) for key in draw.choice(["", "x", "xy"]))
+            else:
+                inner.append(("field", name, name, (("kind", "k"),) * draw.randint(0, 1)))
+        rows.append(("on", member, tuple(inner[:6])))
+    return tuple(rows)
+
+
+def crowded_rights(draw, world, wanted):
+    """So many tuples (rows, parts, question) of questions with crowded_rows."""
+    found = []
+    while len(found) < wanted:
+        rows = crowded_rows(draw, world, world["root"], draw.choice([3, 4, 4]))
+        try:
+            found.append((rows, {}, Question(schema_of(world), rows, {})))
+        except BadQuestion:
+            pass
+    return found

@@ -1,5 +1,7 @@
-"""What several tests need: values of every built-in kind, a check for errors, and some schemas."""
+"""What several tests need: values of every built-in kind, a check for errors, some schemas, and short ways to write
+questions."""
 
+from nestedwishes.questions import Question
 from nestedwishes.schemas import Schema
 
 BAD_NAMES = ["", "abcdefghi", "Cat", "caT", "c1", "c_t", "c t", "cat ", "c-t", "\u00e4", "ca\n", "\u0430"]
@@ -77,3 +79,26 @@ def box_schema():
         "cap": ((), {"size": "number", "of": "box"}),
     }
     return Schema(kinds, {}, {"thing": ("box", "cap")}, "box")
+
+
+def field(name, key, *rows):
+    return ("field", name, key, tuple(rows))
+
+
+def on(base, *rows):
+    return ("on", base, tuple(rows))
+
+
+def asked_if(flag, wanted, *rows):
+    return ("if", flag, wanted, tuple(rows))
+
+
+def asked(schema, *rows, **parts):
+    """A question; each part is given as a tuple of its base and its statements."""
+    return Question(schema, tuple(rows), {name: (part[0], tuple(part[1:])) for name, part in parts.items()})
+
+
+def things_of(store):
+    """The things of a store, as they are handed to it."""
+    return {name: (store.kind_of(name), {at: store.value(name, at) for at in store.schema.fields(store.kind_of(name))})
+            for name in store.things()}

@@ -15,7 +15,7 @@ BARRED = re.compile(
     r"|NamedTuple|TypedDict|TYPE_CHECKING|abstractmethod)\b|dataclass|overload|contextmanager")
 BUILTINS = set(
     "len range enumerate zip min max sum abs sorted reversed int str bool bytes list tuple dict set isinstance ord repr "
-    "any all divmod iter next Exception ValueError TypeError KeyError IndexError LookupError ZeroDivisionError "
+    "any all divmod iter next property Exception ValueError TypeError KeyError IndexError LookupError ZeroDivisionError "
     "ArithmeticError OverflowError RuntimeError NotImplementedError AttributeError StopIteration NotImplemented".split())
 METHODS = set(
     "append clear copy count endswith extend find get index insert isalnum isalpha isdigit islower isspace isupper items "
@@ -32,6 +32,10 @@ INTERFACE = {
     "alike": ["parted", "alike"],
     "clashes": ["clash", "written"],
     "risings": ["rises", "wipes", "held"],
+    "told": ["told", "apart"],
+    "sizes": ["greatest", "worst", "final", "settled", "Growth"],
+    "server": ["Server", "tried"],
+    "texts": ["schema_text", "read_schema", "question_text", "read_question"],
 }
 CLASSES = {
     ("schemas", "Schema"): [
@@ -41,6 +45,10 @@ CLASSES = {
         "__init__", "__eq__", "__add__", "__len__", "__getitem__", "__contains__", "parts", "flags", "places", "base_at"],
     ("answers", "Store"): ["__init__", "__eq__", "things", "kind_of", "value", "with_value"],
     ("answers", "Prepared"): ["__init__", "__call__"],
+    ("sizes", "Growth"): ["__init__", "__call__", "__add__", "__lshift__", "__eq__", "degree"],
+    ("server", "Server"): [
+        "__init__", "__getitem__", "__setitem__", "__iadd__", "__contains__", "__len__", "__enter__", "__exit__", "drop",
+        "snapshot", "ask", "watch", "unwatch", "watched", "changed"],
 }
 
 
